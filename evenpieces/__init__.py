@@ -1,0 +1,1 @@
+"""Evenpieces: loads in whole pieces, evened among neighbours."""

@@ -1,0 +1,51 @@
+"""What the other modules ask of things handed in: whole numbers, names, ties."""
+
+MOST_LETTERS = 8
+
+
+def is_whole_within(thing, least, most):
+    """Whether this is a whole number from least to most."""
+    # True and False are ints to Python, but no whole numbers here.
+    if not isinstance(thing, int) or isinstance(thing, bool):
+        return False
+    return least <= thing <= most
+
+
+def is_name(thing):
+    """Whether this is a text of one to eight small letters."""
+    if not isinstance(thing, str) or not 1 <= len(thing) <= MOST_LETTERS:
+        return False
+    # islower and isalpha take letters beyond a to z, too.
+    return all(["a" <= letter <= "z" for letter in thing])
+
+
+def lesser_first(one, other):
+    """The tie of two names, the lesser one first."""
+    return (one, other) if one < other else (other, one)
+
+
+def is_pair_of_names(thing):
+    """Whether this is a tuple of two unlike names."""
+    if not isinstance(thing, tuple) or len(thing) != 2:
+        return False
+    return is_name(thing[0]) and is_name(thing[1]) and thing[0] != thing[1]
+
+
+def sorted_ties(ties):
+    """The ties sorted, each with the lesser name first; None where this is no list of ties, or one stands twice."""
+    if not isinstance(ties, list):
+        return None
+    found = {}
+    for pair in ties:
+        if not is_pair_of_names(pair):
+            return None
+        tie = lesser_first(pair[0], pair[1])
+        if tie in found:
+            return None
+        found[tie] = True
+    return sorted(found)
+
+
+def ties_anew(ties):
+    """A new list of new tuples, for the asker to keep."""
+    return [(one, other) for one, other in ties]
