@@ -1,14 +1,22 @@
-"""What the other modules ask of things handed in: whole numbers, names, ties."""
+"""What the other modules ask of things handed in, whole numbers, names and ties, and fractions."""
 
 MOST_LETTERS = 8
 
 
+def is_whole(thing):
+    """Whether this is a whole number."""
+    # True and False are ints to Python, but no whole numbers here.
+    return isinstance(thing, int) and not isinstance(thing, bool)
+
+
+def is_whole_from(thing, least):
+    """Whether this is a whole number from least on."""
+    return is_whole(thing) and least <= thing
+
+
 def is_whole_within(thing, least, most):
     """Whether this is a whole number from least to most."""
-    # True and False are ints to Python, but no whole numbers here.
-    if not isinstance(thing, int) or isinstance(thing, bool):
-        return False
-    return least <= thing <= most
+    return is_whole(thing) and least <= thing <= most
 
 
 def is_name(thing):
@@ -49,3 +57,28 @@ def sorted_ties(ties):
 def ties_anew(ties):
     """A new list of new tuples, for the asker to keep."""
     return [(one, other) for one, other in ties]
+
+
+def greatest_divisor(one, other):
+    """The greatest whole number that divides both; the other number where one is 0."""
+    rest = one
+    divisor = other
+    while rest != 0:
+        left = divisor % rest
+        divisor = rest
+        rest = left
+    return divisor
+
+
+def least_multiple(numbers):
+    """The least whole number from 1 on that all these numbers divide."""
+    found = 1
+    for number in numbers:
+        found = found // greatest_divisor(found, number) * number
+    return found
+
+
+def fraction_of(top, below):
+    """The fraction in least numbers; top from 0 on, below from 1 on."""
+    divisor = greatest_divisor(top, below)
+    return (top // divisor, below // divisor)

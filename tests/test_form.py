@@ -37,6 +37,21 @@ WORDS = re.compile(
 )
 
 
+UNUSED_NAMES = """
+    attrgetter breakpoint builtins compile copyright credits delattr dir eval exec exit gc getattr globals hasattr help
+    id importlib license locals methodcaller os quit setattr super type vars sys chr
+""".split()
+
+KEYWORDS = {
+    "sorted": ["key", "reverse"], "min": ["key", "default"], "max": ["key", "default"], "sum": ["start"],
+    "enumerate": ["start"], "zip": ["strict"],
+}
+
+WALKED = ["zip", "enumerate", "reversed", "range"]
+VIEWS = ["items", "keys", "values"]
+WALKERS = ["list", "tuple", "dict", "sorted", "sum", "any", "all", "enumerate", "zip", "min", "max"]
+
+
 def package_files():
     return sorted(path for path in PACKAGE.rglob("*") if path.is_file() and path.suffix != ".pyc")
 
@@ -59,6 +74,22 @@ def bound_at_top(tree):
     return names
 
 
+def with_parents():
+    """(file, node, its parent) for all nodes but the modules."""
+    return [(name, child, node) for name, tree in trees() for node in ast.walk(tree)
+            for child in ast.iter_child_nodes(node)]
+
+
+def called(node):
+    """The name that is called, or None."""
+    return node.func.id if isinstance(node, ast.Call) and isinstance(node.func, ast.Name) else None
+
+
+def method_called(node):
+    """The method that is called, or None."""
+    return node.func.attr if isinstance(node, ast.Call) and isinstance(node.func, ast.Attribute) else None
+
+
 def imported(tree):
     return [alias.name for node in tree.body if isinstance(node, ast.ImportFrom) for alias in node.names]
 
@@ -66,7 +97,7 @@ def imported(tree):
 class Files(unittest.TestCase):
     def test_there_are_files(self):
         names = [path.name for path in package_files()]
-        for name in ["__init__.py", "errors.py", "goods.py", "webs.py"]:
+        for name in ["__init__.py", "errors.py", "goods.py", "moves.py", "rules.py", "runs.py", "stands.py", "webs.py"]:
             self.assertIn(name, names)
 
     def test_names(self):
@@ -151,7 +182,111 @@ class Code(unittest.TestCase):
             self.assertNotIn(getattr(node.type, "id", None), ["Exception", "TypeError"], (name, node.lineno))
 
 
+class Tops(unittest.TestCase):
+    def test_rows_at_the_top(self):
+        for name, tree in trees():
+            self.assertIsNotNone(ast.get_docstring(tree), name)
+            for row in tree.body[1:]:
+                self.assertIsInstance(row, (ast.ImportFrom, ast.FunctionDef, ast.ClassDef, ast.Assign), name)
+
+    def test_values_at_the_top_are_plain_and_hold_no_list_or_dict(self):
+        for name, tree in trees():
+            for row in tree.body:
+                if isinstance(row, ast.Assign):
+                    ast.literal_eval(row.value)
+                    inner = [node for node in ast.walk(row.value) if node is not row.value]
+                    self.assertFalse(any(isinstance(node, (ast.List, ast.Dict, ast.Set)) for node in inner), name)
+
+    def test_lists_and_dicts_of_the_top_are_only_read(self):
+        kept = [row.targets[0].id for name, tree in trees() for row in tree.body
+                if isinstance(row, ast.Assign) and isinstance(row.value, (ast.List, ast.Dict))]
+        for name, node, parent in with_parents():
+            if isinstance(node, ast.Name) and node.id in kept and isinstance(node.ctx, ast.Load):
+                is_indexed = isinstance(parent, ast.Subscript) and isinstance(parent.ctx, ast.Load)
+                is_read = is_indexed or isinstance(parent, (ast.Compare, ast.For, ast.comprehension))
+                is_read = is_read or isinstance(parent, ast.Attribute) and parent.attr in VIEWS + ["get"]
+                self.assertTrue(is_read or called(parent) in ["len", "sorted", "list", "dict"], (name, node.lineno))
+
+    def test_classes_are_called_bases_or_named_by_isinstance(self):
+        classes = [node.name for name, node in nodes(ast.ClassDef)]
+        for name, node, parent in with_parents():
+            if isinstance(node, ast.Name) and node.id in classes:
+                is_called = isinstance(parent, ast.Call) and (parent.func is node or called(parent) == "isinstance")
+                is_base_init = isinstance(parent, ast.Attribute) and parent.attr == "__init__"
+                self.assertTrue(is_called or is_base_init or isinstance(parent, (ast.ClassDef, ast.ExceptHandler)),
+                                (name, node.lineno))
+
+
+class Calls(unittest.TestCase):
+    def test_keywords(self):
+        for name, node in nodes(ast.Call):
+            for keyword in node.keywords:
+                self.assertIn(keyword.arg, KEYWORDS.get(called(node), []), (name, node.lineno))
+
+    def test_what_python_walks_is_walked_on_the_spot(self):
+        for name, node, parent in with_parents():
+            if called(node) in WALKED or method_called(node) in VIEWS:
+                is_walked = isinstance(parent, (ast.For, ast.comprehension)) and parent.iter is node
+                is_walked = is_walked or called(parent) in WALKERS and parent.args[0] is node
+                self.assertTrue(is_walked, (name, node.lineno))
+
+    def test_own_names_of_python_are_called_not_kept(self):
+        functions = [word for word in BUILTINS if word.islower() and word not in ["int", "str", "bool", "list", "tuple",
+                                                                                  "dict", "set", "frozenset"]]
+        for name, node, parent in with_parents():
+            if isinstance(node, ast.Name) and node.id in functions and not isinstance(parent, ast.keyword):
+                self.assertTrue(isinstance(parent, ast.Call) and parent.func is node, (name, node.lineno))
+
+    def test_methods_are_called_where_they_stand(self):
+        methods = [row.name for name, node in nodes(ast.ClassDef) for row in node.body
+                   if isinstance(row, ast.FunctionDef)]
+        for name, node, parent in with_parents():
+            if isinstance(node, ast.Attribute) and node.attr in METHODS + methods:
+                self.assertTrue(isinstance(parent, ast.Call) and parent.func is node, (name, node.lineno))
+
+    def test_no_sets(self):
+        self.assertEqual([(name, node.lineno) for name, node in nodes((ast.Set, ast.SetComp))], [])
+        for name, node, parent in with_parents():
+            if called(node) in ["set", "frozenset"]:
+                self.assertTrue(isinstance(parent, ast.Compare) or called(parent) in ["sorted", "len"], name)
+
+    def test_what_a_loop_walks_is_not_changed_in_it(self):
+        changing = ["append", "clear", "extend", "insert", "pop", "remove", "reverse", "setdefault", "update"]
+        for name, loop in nodes(ast.For):
+            walked = [node.id for node in ast.walk(loop.iter) if isinstance(node, ast.Name)]
+            for row in loop.body:
+                for node in ast.walk(row):
+                    if method_called(node) in changing and isinstance(node.func.value, ast.Name):
+                        self.assertNotIn(node.func.value.id, walked, (name, node.lineno))
+                    if isinstance(node, ast.Subscript) and isinstance(node.ctx, ast.Store):
+                        self.assertNotIn(getattr(node.value, "id", None), walked, (name, node.lineno))
+
+    def test_two_lambdas_do_not_stand_on_one_line(self):
+        lines = [(name, node.lineno) for name, node in nodes(ast.Lambda)]
+        self.assertEqual(len(lines), len(set(lines)))
+
+    def test_errors_are_made_on_the_spot(self):
+        for name, node in nodes(ast.Raise):
+            self.assertIsInstance(node.exc, ast.Call, (name, node.lineno))
+        self.assertEqual([(name, node.lineno) for name, node in nodes(ast.Call)
+                          if called(node) in BUILTINS and called(node).endswith("Error")], [])
+
+    def test_no_annotations(self):
+        self.assertEqual([name for name, node in nodes(ast.AnnAssign)], [])
+        self.assertEqual([name for name, node in nodes(ast.arg) if node.annotation], [])
+        self.assertEqual([name for name, node in nodes(ast.FunctionDef) if node.returns], [])
+
+    def test_powers_have_a_written_exponent(self):
+        for name, node in nodes(ast.BinOp):
+            if isinstance(node.op, ast.Pow):
+                self.assertIn(getattr(node.right, "value", None), range(65), (name, node.lineno))
+
+
 class Names(unittest.TestCase):
+    def test_names_that_are_not_used(self):
+        for name, node in nodes(ast.Name):
+            self.assertNotIn(node.id, UNUSED_NAMES, (name, node.lineno))
+
     def test_python_names(self):
         for name, tree in trees():
             own = bound_at_top(tree) + imported(tree)
@@ -166,7 +301,7 @@ class Names(unittest.TestCase):
             top = bound_at_top(tree) + imported(tree)
             self.assertEqual(len(top), len(set(top)), name)
             classes = [node.name for node in tree.body if isinstance(node, ast.ClassDef)]
-            taken = classes + imported(tree) + dir(builtins)
+            taken = classes + imported(tree) + dir(builtins) + UNUSED_NAMES
             for node in ast.walk(tree):
                 if isinstance(node, ast.arg):
                     self.assertNotIn(node.arg, taken, (name, node.lineno))

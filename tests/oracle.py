@@ -1,0 +1,140 @@
+"""A second reckoning of points [10] to [23], straight from the document's words, for the tests to compare with.
+
+It is written apart from the package, with Python's fractions and no care for speed.
+"""
+
+import itertools
+import math
+from fractions import Fraction
+
+GUARDS = ["high", "fall", "calm"]
+RULES = (
+    [f"{way} {mode} {guard}" for way in ["least", "below"] for mode in ["one", "all"] for guard in GUARDS]
+    + [f"shares {mode}" for mode in ["one", "all"]]
+    + [f"turns {guard}" for guard in GUARDS]
+)
+LET_BY = [
+    "least one fall", "least one calm", "below one fall", "below one calm",
+    "shares one", "shares all", "turns fall", "turns calm",
+]
+CALM = ["least one calm", "below one calm", "shares one", "shares all", "turns calm"]
+
+
+def pair(fraction):
+    return (fraction.numerator, fraction.denominator)
+
+
+def load(goods, stand, hand):
+    return sum(goods.weight(piece) for piece in stand if stand[piece] == hand)
+
+
+def height(goods, stand, hand):
+    return Fraction(load(goods, stand, hand), goods.web.strength(hand))
+
+
+def sum_of(goods, stand):
+    hands = goods.web.hands()
+    multiple = math.lcm(*[goods.web.strength(hand) for hand in hands])
+    return sum(load(goods, stand, hand) ** 2 * (multiple // goods.web.strength(hand)) for hand in hands)
+
+
+def spread(goods, stand):
+    pairs = itertools.product(goods.web.hands(), repeat=2)
+    return pair(max(height(goods, stand, one) - height(goods, stand, other) for one, other in pairs))
+
+
+def steepest(goods, stand):
+    pairs = itertools.permutations(goods.web.hands(), 2)
+    apart = [height(goods, stand, one) - height(goods, stand, other)
+             for one, other in pairs if goods.web.are_tied(one, other)]
+    return pair(max(apart, default=Fraction(0)))
+
+
+def fits(goods, stand, piece, one, other, guard):
+    strong, weak = goods.web.strength(one), goods.web.strength(other)
+    apart = height(goods, stand, one) - height(goods, stand, other)
+    # The piece alone lowers one and raises other by this much together.
+    step = Fraction(goods.weight(piece), strong) + Fraction(goods.weight(piece), weak)
+    return {"high": apart > 0, "fall": 2 * apart > step, "calm": apart >= step}[guard]
+
+
+def may_give(goods, stand, one, other, given):
+    pieces = [piece for piece in stand if stand[piece] == one and piece not in given]
+    pieces = [piece for piece in pieces if goods.may_go(piece, one, other)]
+    return sorted(sorted(pieces), key=goods.weight, reverse=True)
+
+
+def heaviest(goods, stand, one, other, guard, given=()):
+    pieces = may_give(goods, stand, one, other, given)
+    return [(piece, one, other) for piece in pieces if fits(goods, stand, piece, one, other, guard)][:1]
+
+
+def gives(goods, stand, hand, words):
+    around = sorted(goods.web.neighbours(hand))
+    rising = sorted(around, key=lambda other: height(goods, stand, other))
+    lower = [other for other in rising if height(goods, stand, other) < height(goods, stand, hand)]
+    if words[0] == "least":
+        return heaviest(goods, stand, hand, rising[0], words[2]) if rising else []
+    moves = []
+    if words[0] == "below":
+        for other in lower:
+            moves += heaviest(goods, stand, hand, other, words[2], [move[0] for move in moves])
+        return moves
+    for other in sorted(lower):
+        s, r = goods.web.strength(hand), goods.web.strength(other)
+        n = 1 + max(len(goods.web.neighbours(each)) for each in goods.web.hands())
+        d = load(goods, stand, hand) * r - load(goods, stand, other) * s
+        left = d // ((s + r) * n)
+        for piece in may_give(goods, stand, hand, other, [move[0] for move in moves]):
+            if goods.weight(piece) <= left:
+                left -= goods.weight(piece)
+                moves.append((piece, hand, other))
+    return moves
+
+
+def turn(goods, stand, row, guard):
+    moves = []
+    for one, other in row:
+        if height(goods, stand, one) > height(goods, stand, other):
+            moves += heaviest(goods, stand, one, other, guard)
+        elif height(goods, stand, one) < height(goods, stand, other):
+            moves += heaviest(goods, stand, other, one, guard)
+    return moves
+
+
+def moves_of(goods, stand, rule, moment):
+    words = rule.split()
+    if words[0] == "turns":
+        rows = goods.web.turns()
+        return turn(goods, stand, rows[moment % len(rows)], words[1]) if rows else []
+    moves = [move for hand in sorted(goods.web.hands()) for move in gives(goods, stand, hand, words)]
+    return moves[:1] if words[1] == "one" else moves
+
+
+def rounds(goods, rule):
+    return len(goods.web.turns()) or 1 if rule.startswith("turns") else 1
+
+
+def at_rest(goods, stand, rule):
+    return all(moves_of(goods, stand, rule, moment) == [] for moment in range(rounds(goods, rule)))
+
+
+def stands_of(goods, stand, rule, moments):
+    stands = [dict(stand)]
+    for moment in range(moments):
+        after = dict(stands[-1])
+        after.update({piece: other for piece, one, other in moves_of(goods, stands[-1], rule, moment)})
+        stands.append(after)
+    return stands
+
+
+def run_of(goods, stand, rule, most):
+    stands = stands_of(goods, stand, rule, most)
+    for t, there in enumerate(stands):
+        if at_rest(goods, there, rule):
+            return ("rest", t, there)
+    for t, there in enumerate(stands):
+        for long in range(rounds(goods, rule), most - t + 1, rounds(goods, rule)):
+            if stands[t + long] == there:
+                return ("ring", t, long)
+    return ("more",)
