@@ -82,3 +82,17 @@ def fraction_of(top, below):
     """The fraction in least numbers; top from 0 on, below from 1 on."""
     divisor = greatest_divisor(top, below)
     return (top // divisor, below // divisor)
+
+
+def is_fraction(thing):
+    """Whether this is a fraction in least numbers; its top may be below 0."""
+    if not isinstance(thing, tuple) or len(thing) != 2:
+        return False
+    if not is_whole(thing[0]) or not is_whole_from(thing[1], 1):
+        return False
+    return greatest_divisor(abs(thing[0]), thing[1]) == 1
+
+
+def is_less(one, other):
+    """Whether the one fraction is less than the other."""
+    return one[0] * other[1] < other[0] * one[1]

@@ -41,6 +41,25 @@ def levels_at(goods, placed):
     return found
 
 
+def heights_at(goods, placed):
+    """The height of each hand, a fraction, of a stand that is checked."""
+    found = {}
+    for hand, load in loads_at(goods, placed).items():
+        found[hand] = fraction_of(load, goods.web.strength(hand))
+    return found
+
+
+def rise_at(goods, placed):
+    """The spread times the multiple of strengths, a whole number, of a stand that is checked."""
+    levels = levels_at(goods, placed)
+    return max(levels.values()) - min(levels.values())
+
+
+def spread_at(goods, placed):
+    """What spread tells, of a stand that is checked."""
+    return fraction_of(rise_at(goods, placed), multiple_of_strengths(goods.web))
+
+
 def sum_at(goods, placed):
     """What sum_of tells, of a stand that is checked."""
     levels = levels_at(goods, placed)
@@ -54,10 +73,7 @@ def loads(goods, stand):
 
 def heights(goods, stand):
     """The load divided by the strength, a fraction, for each hand."""
-    found = {}
-    for hand, load in loads(goods, stand).items():
-        found[hand] = fraction_of(load, goods.web.strength(hand))
-    return found
+    return heights_at(goods, checked_stand(goods, stand))
 
 
 def pieces_at(goods, stand, hand):
@@ -75,8 +91,7 @@ def sum_of(goods, stand):
 
 def spread(goods, stand):
     """The fraction by which the greatest height is above the least one."""
-    levels = levels_at(goods, checked_stand(goods, stand))
-    return fraction_of(max(levels.values()) - min(levels.values()), multiple_of_strengths(goods.web))
+    return spread_at(goods, checked_stand(goods, stand))
 
 
 def steepest(goods, stand):

@@ -1,4 +1,4 @@
-"""A second reckoning of points [10] to [23], straight from the document's words, for the tests to compare with.
+"""A second reckoning of points [10] to [28], [35] and [36], straight from the document's words, for the tests to compare with.
 
 It is written apart from the package, with Python's fractions and no care for speed.
 """
@@ -138,3 +138,70 @@ def run_of(goods, stand, rule, most):
             if stands[t + long] == there:
                 return ("ring", t, long)
     return ("more",)
+
+
+def rest_by(goods, stand, rule):
+    web = goods.web
+    multiple = math.lcm(*[web.strength(hand) for hand in web.hands()])
+    whole = sum(goods.weight(piece) for piece in goods.names())
+    least = math.ceil(Fraction(multiple * whole * whole, sum(web.strength(hand) for hand in web.hands())))
+    return (sum_of(goods, stand) - least) * rounds(goods, rule)
+
+
+def gap_of_tie(web, weight, rule, one, other):
+    s, r = web.strength(one), web.strength(other)
+    n = 1 + max(len(web.neighbours(hand)) for hand in web.hands())
+    if rule.endswith("fall"):
+        return Fraction(weight * (s + r), 2 * s * r)
+    if rule.endswith("calm"):
+        return Fraction(weight * (s + r) - 1, s * r)
+    return Fraction(weight * (s + r) * n - 1, s * r)
+
+
+def gap_of(web, weight, rule):
+    return pair(max([gap_of_tie(web, weight, rule, one, other) for one, other in web.ties()], default=Fraction(0)))
+
+
+def fault_of_rest(goods, stand, rule, sums):
+    stands = stands_of(goods, stand, rule, len(sums) - 1)
+    last = len(sums) - 1
+    for k in range(len(sums)):
+        if sums[k] != sum_of(goods, stands[k]):
+            return ("sum", k)
+        if k < last and at_rest(goods, stands[k], rule):
+            return ("rests", k)
+        if k == last and not at_rest(goods, stands[k], rule):
+            return ("goes", k)
+        if k < last and moves_of(goods, stands[k], rule, k) != [] and not sums[k + 1] < sums[k]:
+            return ("rise", k)
+    return None
+
+
+def fault_of_ring(goods, stand, rule, t, long):
+    stands = stands_of(goods, stand, rule, t + long)
+    for k in range(t + long + 1):
+        if at_rest(goods, stands[k], rule):
+            return ("rests", k)
+    if stands[t] != stands[t + long] or t % rounds(goods, rule) != (t + long) % rounds(goods, rule):
+        return ("unlike",)
+    return None
+
+
+def beside(goods, stand):
+    """All stands that one move leads to."""
+    pairs = itertools.product(stand, goods.web.hands())
+    return [{**stand, piece: hand} for piece, hand in pairs if goods.may_go(piece, stand[piece], hand)]
+
+
+def layers_of(goods, stand, count):
+    """The stands that 0, 1, .. count moves, and no fewer, lead to; no empty list among them."""
+    layers, known = [[stand]], [stand]
+    while len(layers) <= count:
+        newest = []
+        for there in layers[-1]:
+            newest += [after for after in beside(goods, there) if after not in known and after not in newest]
+        if not newest:
+            break
+        layers.append(newest)
+        known += newest
+    return layers

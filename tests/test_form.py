@@ -8,6 +8,10 @@ import unittest
 
 PACKAGE = pathlib.Path(__file__).resolve().parent.parent / "evenpieces"
 
+MODULES = """
+    __init__.py bounds.py errors.py fewests.py goods.py moves.py papers.py rules.py runs.py stands.py webs.py yards.py
+""".split()
+
 NODES = """
     Module Expr Import ImportFrom alias FunctionDef ClassDef arguments arg Return Assign AugAssign AnnAssign If While
     For Break Continue Pass Raise Try ExceptHandler Call Attribute Subscript Slice Name Load Store Constant List Tuple
@@ -97,7 +101,7 @@ def imported(tree):
 class Files(unittest.TestCase):
     def test_there_are_files(self):
         names = [path.name for path in package_files()]
-        for name in ["__init__.py", "errors.py", "goods.py", "moves.py", "rules.py", "runs.py", "stands.py", "webs.py"]:
+        for name in MODULES:
             self.assertIn(name, names)
 
     def test_names(self):
