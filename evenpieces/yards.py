@@ -54,11 +54,16 @@ class Yard:
 
     def tick(self, moments):
         """So many moments go by; the list of all moves made."""
-        checked_moments(moments)
+        end = self.moment + checked_moments(moments)
         goods = self.goods()
         moves = []
-        for step in range(moments):
+        while self.moment < end:
             moves.extend(self.moves_made(goods))
+            placed = self.stand()
+            if rests_at(goods, placed, self.rule):
+                self.bound_in_parts = rise_at(goods, placed)
+                # Nothing is moved any more, so what is left of the moments goes by at once.
+                self.moment = end
         return moves
 
     def moves_made(self, goods):
@@ -68,9 +73,6 @@ class Yard:
             self.hand_by_name[piece] = other
             self.deeds.append(("move", self.moment, piece, one, other))
         self.moment = self.moment + 1
-        placed = self.stand()
-        if rests_at(goods, placed, self.rule):
-            self.bound_in_parts = rise_at(goods, placed)
         return moves
 
     def goods(self):

@@ -1,4 +1,4 @@
-"""A second reckoning of points [10] to [28], [35] and [36], straight from the document's words, for the tests to compare with.
+"""A second reckoning of points [10] to [28], [35], [36] and [41] to [45], straight from the document's words, for the tests to compare with.
 
 It is written apart from the package, with Python's fractions and no care for speed.
 """
@@ -205,3 +205,53 @@ def layers_of(goods, stand, count):
         layers.append(newest)
         known += newest
     return layers
+
+
+def hands_of(stand):
+    return tuple(stand[piece] for piece in sorted(stand))
+
+
+def shut_of(goods, stand, limit, count):
+    layers = layers_of(goods, stand, count - 1)
+    found = [(there, number) for number, layer in enumerate(layers) for there in layer]
+    if any(Fraction(*spread(goods, there)) <= Fraction(*limit) for there, number in found):
+        return None
+    return sorted((hands_of(there), number) for there, number in found)
+
+
+def shut_fault(goods, stand, limit, count, shut):
+    """Of a shut that has no fault of form."""
+    if (hands_of(stand), 0) not in shut:
+        return ("first",)
+    for k, (hands, number) in enumerate(shut):
+        there = dict(zip(sorted(stand), hands))
+        if Fraction(*spread(goods, there)) <= Fraction(*limit):
+            return ("even", k)
+        for after in beside(goods, there):
+            numbers = [other for those, other in shut if those == hands_of(after)]
+            if number < count - 1 and (not numbers or numbers[0] > number + 1):
+                return ("open", k)
+    return None
+
+
+def ways_between(web, one, other, gone=()):
+    """All ways along ties from the hand one to the hand other, no hand twice, as lists of ties."""
+    if one == other:
+        return [[]]
+    found = []
+    for near in web.neighbours(one):
+        if near not in gone:
+            found += [[(one, near)] + way for way in ways_between(web, near, other, gone + (one,))]
+    return found
+
+
+def gap_of_tie_by(web, weight, rule, tie):
+    """As gap_of_tie, but by least the greatest of all ties that have one of the tie's two hands."""
+    near = [other for other in web.ties() if set(other) & set(tie)] if rule.startswith("least") else [tie]
+    return max(gap_of_tie(web, weight, rule, *other) for other in near)
+
+
+def apart_by(web, weight, rule, one, other):
+    sums = [sum([gap_of_tie_by(web, weight, rule, tie) for tie in way], Fraction(0))
+            for way in ways_between(web, one, other)]
+    return pair(min(sums)) if sums else None

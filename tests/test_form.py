@@ -9,7 +9,8 @@ import unittest
 PACKAGE = pathlib.Path(__file__).resolve().parent.parent / "evenpieces"
 
 MODULES = """
-    __init__.py bounds.py errors.py fewests.py goods.py moves.py papers.py rules.py runs.py stands.py webs.py yards.py
+    __init__.py aparts.py bounds.py desk.py errors.py fewests.py goods.py moves.py papers.py rules.py runs.py shuts.py
+    stands.py texts.py webs.py yards.py
 """.split()
 
 NODES = """
@@ -36,9 +37,13 @@ DUNDERS = ["__init__", "__eq__", "__repr__", "__str__", "__len__"]
 
 WORDS = re.compile(
     r"\b(type|typing|typing_extensions|enum|Enum|IntEnum|StrEnum|Flag|IntFlag|Generic|Protocol|ABC|ABCMeta|namedtuple"
-    r"|NamedTuple|TypedDict|TYPE_CHECKING|abstractmethod|register|mro|elements|open|input|version_info|with_traceback"
-    r"|add_note)\b|dataclass|overload|contextmanager"
+    r"|NamedTuple|TypedDict|TYPE_CHECKING|abstractmethod)\b|dataclass|overload|contextmanager"
 )
+
+UNUSED_ANYWHERE = """
+    register mro elements open input version_info with_traceback add_note f_back f_code f_globals f_locals tb_next
+    tb_frame co_names co_code gi_frame cr_frame format format_map
+""".split()
 
 
 UNUSED_NAMES = """
@@ -180,10 +185,36 @@ class Code(unittest.TestCase):
             for row in node.body:
                 self.assertIsInstance(row, (ast.FunctionDef, ast.Expr), (name, node.name))
 
-    def test_errors_taken(self):
+    def test_errors_taken_are_the_programs_own(self):
+        own = [node.name for name, node in nodes(ast.ClassDef)]
         for name, node in nodes(ast.ExceptHandler):
-            self.assertIsInstance(node.type, (ast.Name, ast.Tuple), (name, node.lineno))
-            self.assertNotIn(getattr(node.type, "id", None), ["Exception", "TypeError"], (name, node.lineno))
+            self.assertIn(getattr(node.type, "id", None), own, (name, node.lineno))
+            for row in ast.walk(node):
+                if isinstance(row, ast.Raise) and row.cause is not None:
+                    cause = getattr(row.cause, "id", None) or getattr(row.cause, "value", "none")
+                    self.assertIn(cause, [node.name, None], (name, row.lineno))
+
+    def test_making_gives_back_nothing(self):
+        for name, node in nodes(ast.FunctionDef):
+            if node.name == "__init__":
+                self.assertFalse(any(isinstance(row, ast.Return) for row in ast.walk(node)), name)
+
+    def test_texts_with_names_in_braces(self):
+        for name, node in nodes(ast.FormattedValue):
+            self.assertIsInstance(node.value, ast.Name, (name, node.lineno))
+            self.assertIsNone(node.format_spec, (name, node.lineno))
+            self.assertIn(node.conversion, [-1, ord("r")], (name, node.lineno))
+
+    def test_escapes(self):
+        for path in package_files():
+            text = path.read_text(encoding="utf-8").replace("\\\\", "")
+            self.assertEqual(re.findall(r"\\[^nt\"']", text), [], path.name)
+
+    def test_isinstance_names_classes(self):
+        own = [node.name for name, node in nodes(ast.ClassDef)]
+        for name, node in nodes(ast.Call):
+            if called(node) == "isinstance":
+                self.assertIn(node.args[1].id, own + ["int", "str", "bool", "list", "tuple", "dict"], name)
 
 
 class Tops(unittest.TestCase):
@@ -289,7 +320,13 @@ class Calls(unittest.TestCase):
 class Names(unittest.TestCase):
     def test_names_that_are_not_used(self):
         for name, node in nodes(ast.Name):
-            self.assertNotIn(node.id, UNUSED_NAMES, (name, node.lineno))
+            self.assertNotIn(node.id, UNUSED_NAMES + UNUSED_ANYWHERE, (name, node.lineno))
+        for name, node in nodes(ast.Attribute):
+            self.assertNotIn(node.attr, UNUSED_ANYWHERE, (name, node.lineno))
+        for name, node in nodes((ast.FunctionDef, ast.ClassDef)):
+            self.assertNotIn(node.name, UNUSED_NAMES + UNUSED_ANYWHERE, (name, node.lineno))
+        for name, node in nodes(ast.arg):
+            self.assertNotIn(node.arg, UNUSED_NAMES + UNUSED_ANYWHERE, (name, node.lineno))
 
     def test_python_names(self):
         for name, tree in trees():
