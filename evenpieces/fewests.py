@@ -30,6 +30,11 @@ def placed_by(goods, hands):
     return dict(zip(goods.names(), hands))
 
 
+def is_even(goods, hands, limit):
+    """Whether the spread of the stand, a tuple of hands, is no more than limit."""
+    return not is_less(limit, spread_at(goods, placed_by(goods, hands)))
+
+
 def move_between(goods, hands, after):
     """The one move that leads from the one tuple of hands to the other."""
     for piece, one, other in zip(goods.names(), hands, after):
@@ -94,7 +99,7 @@ def fewest_moves(goods, stand, limit, most):
     reach = Reach(goods, placed)
     while reach.newest != []:
         for hands in reach.newest:
-            if not is_less(limit, spread_at(goods, placed_by(goods, hands))):
+            if is_even(goods, hands, limit):
                 return ("moves", moves_along(goods, reach.row_to(hands)))
         if not reach.widen(most):
             # Told as a new tuple each time, as a written one would not be.

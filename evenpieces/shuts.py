@@ -1,9 +1,9 @@
 """Shuts: papers by which fewer moves are shut out, and a looker over them."""
 
 from evenpieces.errors import NoMost
-from evenpieces.fewests import Reach, check_limit, layers_within, placed_by
-from evenpieces.kinds import is_less, is_whole_within
-from evenpieces.stands import checked_stand, spread_at
+from evenpieces.fewests import Reach, check_limit, is_even, layers_within
+from evenpieces.kinds import is_whole_within
+from evenpieces.stands import checked_stand
 
 MOST_COUNT = 100
 
@@ -15,11 +15,6 @@ def checked_shut_start(goods, stand, limit, count):
     if not is_whole_within(count, 1, MOST_COUNT):
         raise NoMost("count must be a whole number from 1 to 100")
     return placed
-
-
-def is_even(goods, hands, limit):
-    """Whether the spread of the stand, a tuple of hands, is no more than limit."""
-    return not is_less(limit, spread_at(goods, placed_by(goods, hands)))
 
 
 def shut_of(goods, stand, limit, count):
